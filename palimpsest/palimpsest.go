@@ -1,0 +1,71 @@
+// Package palimpsest: a store in which old values stay readable: see DOC.md.
+package palimpsest
+
+import (
+	"palimpsest/api"
+	"palimpsest/history"
+)
+
+// Store is one.
+type Store struct {
+	now     int
+	begun   int // how many transactions there ever were: their numbers are never used again
+	open    map[int]*transaction
+	history *history.History
+}
+
+// New makes one (P3).
+func New() *Store {
+	return &Store{open: map[int]*transaction{}, history: history.New()}
+}
+
+// Now tells the last moment (P7).
+func (s *Store) Now() int { return s.now }
+
+// AsOf tells a key's value at a moment (P8).
+func (s *Store) AsOf(t int, key string) (string, api.Errno) { return "", api.OK }
+
+// Range tells all between two keys at a moment (P8).
+func (s *Store) Range(t int, from string, to string) ([]api.Pair, api.Errno) { return nil, api.OK }
+
+// Retain keeps moments from one on alone (P9).
+func (s *Store) Retain(t int) api.Errno { return api.OK }
+
+// Vacuum lets old versions go (P10).
+func (s *Store) Vacuum(most int) int { return 0 }
+
+// Stored tells how many versions there are (P10).
+func (s *Store) Stored() int { return 0 }
+
+// Files tells the log (P11).
+func (s *Store) Files() [][]byte { return nil }
+
+// Sync makes sure of all that was written (P12).
+func (s *Store) Sync() {}
+
+// Crash tells what is left of the log (P12).
+func (s *Store) Crash(keep int) [][]byte { return nil }
+
+// Recover makes a store of a log (P13).
+func Recover(files [][]byte) (*Store, api.Errno) { return nil, api.OK }
+
+// Backup begins a backup (P14).
+func (s *Store) Backup(since int) (int, api.Errno) { return 0, api.OK }
+
+// Step goes on with a backup (P15).
+func (s *Store) Step(backup int, most int) ([]byte, bool, api.Errno) { return nil, false, api.OK }
+
+// Copy is what was restored.
+type Copy struct{}
+
+// Restore makes a copy as of a moment (P16).
+func Restore(dumps [][]byte, files [][]byte, t int) (*Copy, api.Errno) { return nil, api.OK }
+
+// Span tells from which moment to which (P17).
+func (c *Copy) Span() (int, int) { return 0, 0 }
+
+// AsOf tells a key's value at a moment (P17).
+func (c *Copy) AsOf(t int, key string) (string, api.Errno) { return "", api.OK }
+
+// Range tells all between two keys at a moment (P17).
+func (c *Copy) Range(t int, from string, to string) ([]api.Pair, api.Errno) { return nil, api.OK }
