@@ -3,6 +3,8 @@ package history
 import (
 	"math"
 	"slices"
+	"strconv"
+	"strings"
 	"testing"
 )
 
@@ -72,5 +74,84 @@ func TestKeysInOrderWithinBounds(t *testing.T) {
 		if got := h.Keys(c.from, c.to); !slices.Equal(got, c.want) {
 			t.Errorf("Keys(%q, %q) = %q, want %q", c.from, c.to, got, c.want)
 		}
+	}
+}
+
+// stored tells the versions by keys, of one key by moments: "a3 b2 b5".
+func stored(t *testing.T, h *History) string {
+	t.Helper()
+	var places []string
+	for _, key := range h.Keys("", "~") {
+		if len(h.moments[key]) == 0 {
+			t.Errorf("%q is told as a key with versions", key)
+		}
+		for _, moment := range h.moments[key] {
+			if _, there := h.versions[place{key, moment}]; !there {
+				t.Errorf("no version of %q at its moment %d", key, moment)
+			}
+			places = append(places, key+strconv.Itoa(moment))
+		}
+	}
+	if h.Stored() != len(places) {
+		t.Errorf("Stored() = %d, but there are %d moments", h.Stored(), len(places))
+	}
+	return strings.Join(places, " ")
+}
+
+func wantVacuum(t *testing.T, h *History, horizon, most, gone int, left string) {
+	t.Helper()
+	if got := h.Vacuum(horizon, most); got != gone {
+		t.Errorf("Vacuum(%d, %d) = %d, want %d", horizon, most, got, gone)
+	}
+	if got := stored(t, h); got != left {
+		t.Errorf("Vacuum(%d, %d) has left %q, want %q", horizon, most, got, left)
+	}
+}
+
+func TestVacuumFirstByKeysThenByMoments(t *testing.T) {
+	h := New()
+	for moment := 1; moment <= 3; moment++ {
+		for _, key := range []string{"c", "a", "b"} {
+			h.Add(key, moment, Version{Deleted: key == "b" && moment == 3})
+		}
+	}
+	wantVacuum(t, h, 3, 0, 0, "a1 a2 a3 b1 b2 b3 c1 c2 c3")
+	wantVacuum(t, h, 3, 1, 1, "a2 a3 b1 b2 b3 c1 c2 c3")
+	wantVacuum(t, h, 3, 2, 2, "a3 b2 b3 c1 c2 c3")
+	wantVacuum(t, h, 3, 1, 1, "a3 b3 c1 c2 c3")
+	wantVacuum(t, h, 3, 1, 1, "a3 c1 c2 c3")
+	wantVacuum(t, h, 3, math.MaxInt, 2, "a3 c3")
+	wantVacuum(t, h, math.MaxInt, math.MaxInt, 0, "a3 c3")
+}
+
+func TestVacuumUpToTheHorizonAlone(t *testing.T) {
+	for _, c := range []struct {
+		horizon, gone int
+		left          string
+	}{
+		{math.MinInt, 0, "a3 b2 b5 b7 c4"}, {0, 0, "a3 b2 b5 b7 c4"}, {3, 0, "a3 b2 b5 b7 c4"},
+		{4, 1, "a3 b2 b5 b7"}, {5, 3, "a3 b7"}, {6, 3, "a3 b7"}, {7, 3, "a3 b7"}, {math.MaxInt, 3, "a3 b7"},
+	} {
+		wantVacuum(t, sample(), c.horizon, math.MaxInt, c.gone, c.left)
+		wantVacuum(t, sample(), c.horizon, 0, 0, "a3 b2 b5 b7 c4")
+		wantVacuum(t, sample(), c.horizon, math.MinInt, 0, "a3 b2 b5 b7 c4")
+	}
+}
+
+func TestAddAfterVacuum(t *testing.T) {
+	h := sample()
+	wantVacuum(t, h, 6, 9, 3, "a3 b7")
+	h.Add("b", 8, Version{Value: "eight"})
+	h.Add("c", 8, Version{Value: "again"})
+	if got := stored(t, h); got != "a3 b7 b8 c8" {
+		t.Errorf("stored: %q", got)
+	}
+	for _, key := range []string{"b", "c"} {
+		if _, there := h.Value(key, 6); there {
+			t.Errorf("%q is there at 6", key)
+		}
+	}
+	if value, there := h.Value("c", 8); value != "again" || !there {
+		t.Errorf("Value(c, 8) = %q, %v", value, there)
 	}
 }

@@ -20,6 +20,17 @@ var noKeys = []string{
 	"", "A", "Z", "abcdefghi", "a b", " a", "a ", "é", "\x00", "a\x00", "-", "_", "a/", "0:", "`", "{", "\xff",
 }
 
+// gone is written in the place of a value by commitOf: the key is deleted.
+const gone = "(gone)"
+
+func pairsOf(keysAndValues []string) []api.Pair {
+	var pairs []api.Pair
+	for i := 0; i+1 < len(keysAndValues); i += 2 {
+		pairs = append(pairs, api.Pair{Key: keysAndValues[i], Value: keysAndValues[i+1]})
+	}
+	return pairs
+}
+
 func began(t *testing.T, s *palimpsest.Store) int {
 	t.Helper()
 	tx, e := s.Begin()
@@ -46,12 +57,64 @@ func wantGet(t *testing.T, s *palimpsest.Store, tx int, key, want string, wantEr
 // wantScan takes keys and values in turns.
 func wantScan(t *testing.T, s *palimpsest.Store, tx int, from, to string, want ...string) {
 	t.Helper()
-	var pairs []api.Pair
-	for i := 0; i+1 < len(want); i += 2 {
-		pairs = append(pairs, api.Pair{Key: want[i], Value: want[i+1]})
+	if got, e := s.Scan(tx, from, to); !slices.Equal(got, pairsOf(want)) || e != api.OK {
+		t.Errorf("Scan(%d, %q, %q) = %q, %d, want %q, 0", tx, from, to, got, e, want)
 	}
-	if got, e := s.Scan(tx, from, to); !slices.Equal(got, pairs) || e != api.OK {
-		t.Errorf("Scan(%d, %q, %q) = %q, %d, want %q, 0", tx, from, to, got, e, pairs)
+}
+
+func wantAsOf(t *testing.T, s *palimpsest.Store, moment int, key, want string, wantErr api.Errno) {
+	t.Helper()
+	if value, e := s.AsOf(moment, key); value != want || e != wantErr {
+		t.Errorf("AsOf(%d, %q) = %q, %d, want %q, %d", moment, key, value, e, want, wantErr)
+	}
+}
+
+// wantRange takes keys and values in turns.
+func wantRange(t *testing.T, s *palimpsest.Store, moment int, from, to string, want ...string) {
+	t.Helper()
+	if got, e := s.Range(moment, from, to); !slices.Equal(got, pairsOf(want)) || e != api.OK {
+		t.Errorf("Range(%d, %q, %q) = %q, %d, want %q, 0", moment, from, to, got, e, want)
+	}
+}
+
+func wantNoRange(t *testing.T, s *palimpsest.Store, moment int, want api.Errno) {
+	t.Helper()
+	for _, to := range []string{everything, "", "a", "no key"} {
+		if got, e := s.Range(moment, "", to); len(got) != 0 || e != want {
+			t.Errorf("Range(%d, \"\", %q) = %q, %d, want nothing, %d", moment, to, got, e, want)
+		}
+	}
+}
+
+func wantRetain(t *testing.T, s *palimpsest.Store, moment int, want api.Errno) {
+	t.Helper()
+	if e := s.Retain(moment); e != want {
+		t.Errorf("Retain(%d) = %d, want %d", moment, e, want)
+	}
+}
+
+// wantHorizon holds that one can ask from a moment on, and not ahead of it.
+func wantHorizon(t *testing.T, s *palimpsest.Store, want int) {
+	t.Helper()
+	wantNoRange(t, s, want-1, api.ErrNotRetained)
+	if _, e := s.Range(want, "", everything); e != api.OK {
+		t.Errorf("the moment %d can't be asked: %d", want, e)
+	}
+}
+
+// wantVacuum takes how many may go, how many went, and how many are left.
+func wantVacuum(t *testing.T, s *palimpsest.Store, most, want, left int) {
+	t.Helper()
+	if gone := s.Vacuum(most); gone != want {
+		t.Errorf("Vacuum(%d) = %d, want %d", most, gone, want)
+	}
+	wantStored(t, s, left)
+}
+
+func wantStored(t *testing.T, s *palimpsest.Store, want int) {
+	t.Helper()
+	if stored := s.Stored(); stored != want {
+		t.Errorf("Stored() = %d, want %d", stored, want)
 	}
 }
 
@@ -111,6 +174,20 @@ func putOne(t *testing.T, s *palimpsest.Store, key, value string, want int) {
 	t.Helper()
 	tx := began(t, s)
 	wantPut(t, s, tx, key, value, api.OK)
+	wantCommit(t, s, tx, want, api.OK)
+}
+
+// commitOf commits keys and values, in turns, in a transaction of its own.
+func commitOf(t *testing.T, s *palimpsest.Store, want int, keysAndValues ...string) {
+	t.Helper()
+	tx := began(t, s)
+	for _, pair := range pairsOf(keysAndValues) {
+		if pair.Value == gone {
+			wantDelete(t, s, tx, pair.Key, api.OK)
+		} else {
+			wantPut(t, s, tx, pair.Key, pair.Value, api.OK)
+		}
+	}
 	wantCommit(t, s, tx, want, api.OK)
 }
 

@@ -1,6 +1,7 @@
 package palimpsest_test
 
 import (
+	"cmp"
 	"slices"
 	"strconv"
 	"strings"
@@ -16,6 +17,7 @@ type model struct {
 	versions []modelVersion
 	open     []*modelTx
 	now      int
+	horizon  int
 	begun    int
 }
 
@@ -58,8 +60,12 @@ func (m *model) value(tx *modelTx, key string) (string, bool) {
 			return v.value, !v.deleted
 		}
 	}
+	return m.valueAt(tx.sees, key)
+}
+
+func (m *model) valueAt(moment int, key string) (string, bool) {
 	for i := len(m.versions) - 1; i >= 0; i-- {
-		if v := m.versions[i]; v.key == key && v.moment <= tx.sees {
+		if v := m.versions[i]; v.key == key && v.moment <= moment {
 			return v.value, !v.deleted
 		}
 	}
@@ -137,9 +143,12 @@ func (m *model) commit(number int) (int, api.Errno) {
 		return 0, api.ErrFull
 	}
 	m.now++
-	for _, w := range tx.writes {
-		w.moment = m.now
-		m.versions = append(m.versions, w)
+	for i, w := range tx.writes {
+		sameKey := func(later modelVersion) bool { return later.key == w.key }
+		if !slices.ContainsFunc(tx.writes[i+1:], sameKey) {
+			w.moment = m.now
+			m.versions = append(m.versions, w)
+		}
 	}
 	m.end(number)
 	return m.now, api.OK
@@ -151,6 +160,85 @@ func (m *model) abort(number int) api.Errno {
 	}
 	m.end(number)
 	return api.OK
+}
+
+func (m *model) asOf(moment int, key string) (string, api.Errno) {
+	switch {
+	case modelNoKey(key):
+		return "", api.ErrArg
+	case moment < m.horizon:
+		return "", api.ErrNotRetained
+	case moment > m.now:
+		return "", api.ErrFuture
+	}
+	value, there := m.valueAt(moment, key)
+	if !there {
+		return "", api.ErrNone
+	}
+	return value, api.OK
+}
+
+func (m *model) rangeAt(moment int, from, to string, keys []string) ([]api.Pair, api.Errno) {
+	if moment < m.horizon {
+		return nil, api.ErrNotRetained
+	}
+	if moment > m.now {
+		return nil, api.ErrFuture
+	}
+	var pairs []api.Pair
+	for _, key := range keys {
+		if value, there := m.valueAt(moment, key); there && key >= from && key < to {
+			pairs = append(pairs, api.Pair{Key: key, Value: value})
+		}
+	}
+	return pairs, api.OK
+}
+
+func (m *model) retain(moment int) api.Errno {
+	if moment < m.horizon || moment > m.now {
+		return api.ErrArg
+	}
+	for _, tx := range m.open {
+		if tx.sees < moment {
+			return api.ErrPinned
+		}
+	}
+	m.horizon = moment
+	return api.OK
+}
+
+// vacuum looks for the first version that may go from the beginning each time.
+func (m *model) vacuum(most int) int {
+	slices.SortFunc(m.versions, func(a, b modelVersion) int {
+		return cmp.Or(cmp.Compare(a.key, b.key), cmp.Compare(a.moment, b.moment))
+	})
+	went := 0
+	for went < most {
+		next := m.firstThatMayGo()
+		if next < 0 {
+			break
+		}
+		m.versions = slices.Delete(m.versions, next, next+1)
+		went++
+	}
+	return went
+}
+
+// firstThatMayGo is P10's own words, on versions by keys, of one key by moments.
+func (m *model) firstThatMayGo() int {
+	for i, v := range m.versions {
+		first := i == 0 || m.versions[i-1].key != v.key
+		if v.deleted && v.moment <= m.horizon && first {
+			return i
+		}
+		if i+1 == len(m.versions) {
+			break
+		}
+		if later := m.versions[i+1]; later.key == v.key && later.moment <= m.horizon {
+			return i
+		}
+	}
+	return -1
 }
 
 func modelNoKey(key string) bool {
@@ -197,8 +285,13 @@ func (w *walk) number() int {
 	return w.d.below(w.m.begun+3) - 1
 }
 
+// moment is one from a little ahead of the horizon to a little above now.
+func (w *walk) moment() int {
+	return w.m.horizon - 2 + w.d.below(w.m.now-w.m.horizon+5)
+}
+
 func (w *walk) step() {
-	switch tx := w.number(); w.d.below(12) {
+	switch tx := w.number(); w.d.below(16) {
 	case 0, 1:
 		want, e := w.m.begin()
 		wantBegin(w.t, w.s, want, e)
@@ -221,8 +314,42 @@ func (w *walk) step() {
 		wantGet(w.t, w.s, tx, key, want, e)
 	case 11:
 		w.scan(tx, w.key(), w.key())
+	case 12:
+		moment, key := w.moment(), w.key()
+		want, e := w.m.asOf(moment, key)
+		wantAsOf(w.t, w.s, moment, key, want, e)
+	case 13:
+		w.rangeAt(w.moment(), w.key(), w.key())
+	case 14:
+		if moment := w.moment(); w.d.below(4) == 0 {
+			wantRetain(w.t, w.s, moment, w.m.retain(moment))
+		}
+	case 15:
+		most := w.d.below(5) - 1
+		wantVacuum(w.t, w.s, most, w.m.vacuum(most), len(w.m.versions))
 	}
 	wantNow(w.t, w.s, w.m.now)
+	wantStored(w.t, w.s, len(w.m.versions))
+}
+
+func (w *walk) rangeAt(moment int, from, to string) {
+	want, wantErr := w.m.rangeAt(moment, from, to, w.keys)
+	if got, e := w.s.Range(moment, from, to); !slices.Equal(got, want) || e != wantErr {
+		w.t.Errorf("Range(%d, %q, %q) = %q, %d, want %q, %d", moment, from, to, got, e, want, wantErr)
+	}
+}
+
+// end asks for all that can be asked for, vacuums all that may go, and asks again.
+func (w *walk) end() {
+	for range 2 {
+		for moment := w.m.horizon - 1; moment <= w.m.now+1; moment++ {
+			w.rangeAt(moment, "", everything)
+		}
+		for _, tx := range w.m.open {
+			w.scan(tx.number, "", everything)
+		}
+		wantVacuum(w.t, w.s, len(w.m.versions)+1, w.m.vacuum(len(w.m.versions)+1), len(w.m.versions))
+	}
 }
 
 func (w *walk) scan(tx int, from, to string) {
@@ -233,14 +360,12 @@ func (w *walk) scan(tx int, from, to string) {
 }
 
 func TestStoreAnswersAsTheModel(t *testing.T) {
-	for seed := range 60 {
+	for seed := range 100 {
 		w := newWalk(t, seed, []int{2, 5, 15, 40}[seed%4])
-		for range 800 {
+		for range 1500 {
 			w.step()
 		}
-		for _, tx := range w.m.open {
-			w.scan(tx.number, "", everything)
-		}
+		w.end()
 		if t.Failed() {
 			t.Fatalf("the walk of the seed %d went wrong", seed)
 		}

@@ -8,34 +8,18 @@ import (
 
 // Store is one.
 type Store struct {
-	now     int
-	begun   int // how many transactions there ever were: their numbers are never used again
-	open    map[int]*transaction
-	history *history.History
+	past
+	begun int // how many transactions there ever were: their numbers are never used again
+	open  map[int]*transaction
 }
 
 // New makes one (P3).
 func New() *Store {
-	return &Store{open: map[int]*transaction{}, history: history.New()}
+	return &Store{past: past{history: history.New()}, open: map[int]*transaction{}}
 }
 
 // Now tells the last moment (P7).
 func (s *Store) Now() int { return s.now }
-
-// AsOf tells a key's value at a moment (P8).
-func (s *Store) AsOf(t int, key string) (string, api.Errno) { return "", api.OK }
-
-// Range tells all between two keys at a moment (P8).
-func (s *Store) Range(t int, from string, to string) ([]api.Pair, api.Errno) { return nil, api.OK }
-
-// Retain keeps moments from one on alone (P9).
-func (s *Store) Retain(t int) api.Errno { return api.OK }
-
-// Vacuum lets old versions go (P10).
-func (s *Store) Vacuum(most int) int { return 0 }
-
-// Stored tells how many versions there are (P10).
-func (s *Store) Stored() int { return 0 }
 
 // Files tells the log (P11).
 func (s *Store) Files() [][]byte { return nil }
