@@ -1,6 +1,9 @@
 package palimpsest
 
-import "palimpsest/api"
+import (
+	"palimpsest/api"
+	"palimpsest/journal"
+)
 
 // Retain keeps moments from one on alone (P9).
 func (s *Store) Retain(t int) api.Errno {
@@ -10,7 +13,9 @@ func (s *Store) Retain(t int) api.Errno {
 	if s.pinnedAhead(t) {
 		return api.ErrPinned
 	}
-	s.horizon = t
+	if t > s.horizon {
+		s.do(journal.Record{Kind: journal.Horizon, Moment: t})
+	}
 	return api.OK
 }
 

@@ -19,6 +19,15 @@ type model struct {
 	now      int
 	horizon  int
 	begun    int
+	log      []modelRecord
+	synced   int // bytes
+}
+
+// modelRecord is a commit's, if it has versions, else a horizon's.
+type modelRecord struct {
+	moment   int
+	versions []modelVersion
+	bytes    string
 }
 
 type modelVersion struct {
@@ -142,16 +151,68 @@ func (m *model) commit(number int) (int, api.Errno) {
 	if m.now == api.MaxMoments {
 		return 0, api.ErrFull
 	}
-	m.now++
+	record := modelRecord{moment: m.now + 1}
 	for i, w := range tx.writes {
 		sameKey := func(later modelVersion) bool { return later.key == w.key }
 		if !slices.ContainsFunc(tx.writes[i+1:], sameKey) {
-			w.moment = m.now
-			m.versions = append(m.versions, w)
+			w.moment = record.moment
+			record.versions = append(record.versions, w)
 		}
 	}
+	m.do(record)
 	m.end(number)
 	return m.now, api.OK
+}
+
+func (m *model) do(r modelRecord) {
+	r.bytes = r.written()
+	m.log = append(m.log, r)
+	if len(r.versions) == 0 {
+		m.horizon = r.moment
+		return
+	}
+	m.now = r.moment
+	m.versions = append(m.versions, r.versions...)
+}
+
+func (m *model) files() []string {
+	var records []string
+	for _, r := range m.log {
+		records = append(records, r.bytes)
+	}
+	return logOf(records...)
+}
+
+func (r modelRecord) written() string {
+	if len(r.versions) == 0 {
+		return horizon(r.moment)
+	}
+	slices.SortFunc(r.versions, func(a, b modelVersion) int { return cmp.Compare(a.key, b.key) })
+	var keysAndValues []string
+	for _, v := range r.versions {
+		if v.deleted {
+			v.value = gone
+		}
+		keysAndValues = append(keysAndValues, v.key, v.value)
+	}
+	return commit(r.moment, keysAndValues...)
+}
+
+// recovered is the model of a store of which a crash has left so many bytes.
+func (m *model) recovered(left int) *model {
+	again := &model{}
+	for i, r := range m.log {
+		size := len(r.bytes)
+		if i%api.SegRecords == 0 {
+			size += len(opening(0))
+		}
+		if again.synced+size > left {
+			break
+		}
+		again.do(r)
+		again.synced += size
+	}
+	return again
 }
 
 func (m *model) abort(number int) api.Errno {
@@ -203,7 +264,9 @@ func (m *model) retain(moment int) api.Errno {
 			return api.ErrPinned
 		}
 	}
-	m.horizon = moment
+	if moment != m.horizon {
+		m.do(modelRecord{moment: moment})
+	}
 	return api.OK
 }
 
@@ -260,6 +323,7 @@ type walk struct {
 	m    *model
 	d    dice
 	keys []string // in order
+	safe bool     // crashes leave all
 }
 
 func newWalk(t *testing.T, seed int, keys int) *walk {
@@ -291,7 +355,7 @@ func (w *walk) moment() int {
 }
 
 func (w *walk) step() {
-	switch tx := w.number(); w.d.below(16) {
+	switch tx := w.number(); w.d.below(17) {
 	case 0, 1:
 		want, e := w.m.begin()
 		wantBegin(w.t, w.s, want, e)
@@ -327,9 +391,38 @@ func (w *walk) step() {
 	case 15:
 		most := w.d.below(5) - 1
 		wantVacuum(w.t, w.s, most, w.m.vacuum(most), len(w.m.versions))
+	case 16:
+		if w.d.below(10) == 0 {
+			w.crash()
+		}
 	}
 	wantNow(w.t, w.s, w.m.now)
 	wantStored(w.t, w.s, len(w.m.versions))
+}
+
+// crash holds the logs against each other, and goes on with what a crash has
+// left of them, or makes sure that it leaves all.
+func (w *walk) crash() {
+	files := w.m.files()
+	size := sizeOf(files)
+	wantFiles(w.t, w.s, files)
+	keep := w.d.below(size-w.m.synced+20) - 10
+	if w.safe {
+		keep = size
+	}
+	left := min(w.m.synced+max(0, keep), size)
+	wantCrash(w.t, w.s, keep, firstBytes(files, left))
+	if w.d.below(3) > 0 {
+		w.s.Sync()
+		w.m.synced = size
+		return
+	}
+	s, e := palimpsest.Recover(w.s.Crash(keep))
+	if s == nil || e != api.OK {
+		w.t.Fatalf("Recover of what a crash left = %d", e)
+	}
+	w.s, w.m = s, w.m.recovered(left)
+	wantFiles(w.t, w.s, w.m.files())
 }
 
 func (w *walk) rangeAt(moment int, from, to string) {
@@ -341,6 +434,7 @@ func (w *walk) rangeAt(moment int, from, to string) {
 
 // end asks for all that can be asked for, vacuums all that may go, and asks again.
 func (w *walk) end() {
+	wantFiles(w.t, w.s, w.m.files())
 	for range 2 {
 		for moment := w.m.horizon - 1; moment <= w.m.now+1; moment++ {
 			w.rangeAt(moment, "", everything)
@@ -373,7 +467,8 @@ func TestStoreAnswersAsTheModel(t *testing.T) {
 }
 
 func TestStoreAnswersAsTheModelBeyondMaxMoments(t *testing.T) {
-	w := newWalk(t, 7, 200)
+	w := newWalk(t, 7, 80)
+	w.safe = true
 	for steps := 0; w.m.now < api.MaxMoments && steps < 100*api.MaxMoments && !t.Failed(); steps++ {
 		w.step()
 	}

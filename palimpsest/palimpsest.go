@@ -4,11 +4,13 @@ package palimpsest
 import (
 	"palimpsest/api"
 	"palimpsest/history"
+	"palimpsest/journal"
 )
 
 // Store is one.
 type Store struct {
 	past
+	log   journal.Journal
 	begun int // how many transactions there ever were: their numbers are never used again
 	open  map[int]*transaction
 }
@@ -20,18 +22,6 @@ func New() *Store {
 
 // Now tells the last moment (P7).
 func (s *Store) Now() int { return s.now }
-
-// Files tells the log (P11).
-func (s *Store) Files() [][]byte { return nil }
-
-// Sync makes sure of all that was written (P12).
-func (s *Store) Sync() {}
-
-// Crash tells what is left of the log (P12).
-func (s *Store) Crash(keep int) [][]byte { return nil }
-
-// Recover makes a store of a log (P13).
-func Recover(files [][]byte) (*Store, api.Errno) { return nil, api.OK }
 
 // Backup begins a backup (P14).
 func (s *Store) Backup(since int) (int, api.Errno) { return 0, api.OK }

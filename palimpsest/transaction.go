@@ -1,11 +1,13 @@
 package palimpsest
 
 import (
+	"maps"
 	"slices"
 	"strings"
 
 	"palimpsest/api"
 	"palimpsest/history"
+	"palimpsest/journal"
 	"palimpsest/words"
 )
 
@@ -97,10 +99,7 @@ func (s *Store) Commit(tx int) (int, api.Errno) {
 	if s.now >= api.MaxMoments {
 		return 0, api.ErrFull
 	}
-	s.now++
-	for key, version := range t.writes {
-		s.history.Add(key, s.now, version)
-	}
+	s.do(t.record(s.now + 1))
 	delete(s.open, tx)
 	return s.now, api.OK
 }
@@ -155,4 +154,13 @@ func (t *transaction) write(key string, version history.Version) api.Errno {
 	}
 	t.writes[strings.Clone(key)] = version
 	return api.OK
+}
+
+// record tells what a transaction has written as the commit of a moment.
+func (t *transaction) record(moment int) journal.Record {
+	r := journal.Record{Kind: journal.Commit, Moment: moment}
+	for _, key := range slices.Sorted(maps.Keys(t.writes)) {
+		r.Writes = append(r.Writes, journal.Write{Key: key, Version: t.writes[key]})
+	}
+	return r
 }
