@@ -157,3 +157,48 @@ func TestUnseal(t *testing.T) {
 		t.Errorf("the sum of nothing, which is %d, is not right", crc32.ChecksumIEEE(nil))
 	}
 }
+
+func TestUnsealAll(t *testing.T) {
+	for _, text := range []string{"", "c", "content", strings.Repeat("long", 1000)} {
+		data := Seal([]byte(text))
+		if content, right := UnsealAll(data); string(content) != text || !right {
+			t.Errorf("UnsealAll(%.40q) = %.40q, %v", data, content, right)
+		}
+		for _, other := range [][]byte{
+			append(slices.Clone(data), 0), append(slices.Clone(data), 'x'), append([]byte("x"), data...), data[:len(data)-1], data[1:],
+		} {
+			if content, right := UnsealAll(other); len(content) != 0 || right {
+				t.Errorf("UnsealAll(%.40q) = %.40q, %v", other, content, right)
+			}
+		}
+	}
+	for n := range 4 {
+		if content, right := UnsealAll(make([]byte, n)); len(content) != 0 || right {
+			t.Errorf("UnsealAll of %d bytes = %q, %v", n, content, right)
+		}
+	}
+}
+
+func TestReaderTellsWhetherThereIsMore(t *testing.T) {
+	if NewReader(nil).More() {
+		t.Errorf("there is more of nothing")
+	}
+	r := NewReader([]byte{1, 2})
+	for want := range 2 {
+		if !r.More() {
+			t.Errorf("there is no more behind %d of two bytes", want)
+		}
+		r.One()
+	}
+	if r.More() {
+		t.Errorf("there is more behind the last byte")
+	}
+	r = NewReader([]byte{1, 2, 3})
+	if r.Four(); r.More() {
+		t.Errorf("there is more behind what was missing")
+	}
+	r = NewReader([]byte{1, 'A', 1, 'a'})
+	if r.Key(); r.More() {
+		t.Errorf("there is more behind what may not be")
+	}
+}

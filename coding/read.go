@@ -21,6 +21,16 @@ func Unseal(data []byte, size int) (content []byte, behind []byte, right bool) {
 	return content, data[size+sumSize:], true
 }
 
+// UnsealAll takes content apart from the sum behind it, if these are all bytes:
+// it tells the content, and whether the sum is the content's.
+func UnsealAll(data []byte) (content []byte, right bool) {
+	if len(data) < sumSize {
+		return nil, false
+	}
+	content, _, right = Unseal(data, len(data)-sumSize)
+	return content, right
+}
+
 // Reader takes bytes apart from the front. What is missing, or may not stand
 // where it stands, makes it wrong once and for all: so it is enough to ask in
 // the end.
@@ -73,6 +83,10 @@ func (r *Reader) Version() history.Version {
 	r.wrong = true
 	return history.Version{}
 }
+
+// More tells whether there is more to read. What is wrong has no more: so who
+// reads on while there is more comes to an end.
+func (r *Reader) More() bool { return !r.wrong && len(r.rest) > 0 }
 
 // Done tells whether all was there and right, and nothing stands behind it.
 func (r *Reader) Done() bool { return !r.wrong && len(r.rest) == 0 }

@@ -1,5 +1,5 @@
-// Package coding writes and reads the bytes of which a log is made: numbers,
-// texts, versions, and sums.
+// Package coding writes and reads the bytes of which logs and dumps are made:
+// numbers, texts, versions, and sums.
 package coding
 
 import (

@@ -1,12 +1,22 @@
 // Package history keeps the versions of keys and finds them by moments.
 package history
 
-import "slices"
+import (
+	"maps"
+	"slices"
+)
 
 // Version is what a key was given at a moment: a value, or that it was deleted.
 type Version struct {
 	Value   string
 	Deleted bool
+}
+
+// Entry is a version with its place: whose it is, and since when.
+type Entry struct {
+	Key     string
+	Moment  int
+	Version Version
 }
 
 type place struct {
@@ -60,6 +70,19 @@ func (h *History) Keys(from string, to string) []string {
 	}
 	slices.Sort(keys)
 	return keys
+}
+
+// After tells all versions later than a moment, by keys, of one key by moments.
+func (h *History) After(moment int) []Entry {
+	var entries []Entry
+	for _, key := range slices.Sorted(maps.Keys(h.moments)) {
+		moments := h.moments[key]
+		for _, later := range moments[countUpTo(moments, moment):] {
+			v := h.versions[place{key, later}]
+			entries = append(entries, Entry{Key: key, Moment: later, Version: v})
+		}
+	}
+	return entries
 }
 
 // Stored tells how many versions there are.

@@ -155,3 +155,46 @@ func TestAddAfterVacuum(t *testing.T) {
 		t.Errorf("Value(c, 8) = %q, %v", value, there)
 	}
 }
+
+// told tells what After tells, as stored does.
+func told(h *History, moment int) string {
+	var places []string
+	for _, e := range h.After(moment) {
+		places = append(places, e.Key+strconv.Itoa(e.Moment))
+	}
+	return strings.Join(places, " ")
+}
+
+func TestAfterByKeysThenByMoments(t *testing.T) {
+	for moment, want := range map[int]string{
+		math.MinInt: "a3 b2 b5 b7 c4", 0: "a3 b2 b5 b7 c4", 1: "a3 b2 b5 b7 c4", 2: "a3 b5 b7 c4", 3: "b5 b7 c4", 4: "b5 b7",
+		5: "b7", 6: "b7", 7: "", math.MaxInt: "",
+	} {
+		if got := told(sample(), moment); got != want {
+			t.Errorf("After(%d) = %q, want %q", moment, got, want)
+		}
+	}
+	if got := New().After(0); len(got) != 0 {
+		t.Errorf("After(0) of nothing = %v", got)
+	}
+}
+
+func TestAfterTellsTheVersions(t *testing.T) {
+	want := []Entry{
+		{"b", 5, Version{Deleted: true}}, {"b", 7, Version{}}, {"c", 4, Version{Deleted: true}}, {"c", 9, Version{Value: "nine"}},
+	}
+	h := sample()
+	h.Add("c", 9, Version{Value: "nine"})
+	got := h.After(3)
+	if !slices.Equal(got, want) {
+		t.Errorf("After(3) = %v, want %v", got, want)
+	}
+	h.Vacuum(9, math.MaxInt)
+	h.Add("b", 10, Version{Value: "ten"})
+	if !slices.Equal(got, want) {
+		t.Errorf("what came out has changed: %v", got)
+	}
+	if got := told(h, 0); got != "a3 b7 b10 c9" {
+		t.Errorf("After(0) behind a Vacuum = %q", got)
+	}
+}

@@ -12,6 +12,9 @@ import (
 // magic is what every file begins with.
 const magic = "PL1"
 
+// openingSize is how many bytes that and a file's number have.
+const openingSize = len(magic) + 4
+
 // Journal is a log. One that nothing was added to has no files.
 type Journal struct {
 	files  [][]byte
@@ -63,12 +66,6 @@ func (j *Journal) size() int {
 		size += len(file)
 	}
 	return size
-}
-
-// CutOpening takes the opening off a file: it tells what stands behind it, and
-// whether it is that of the file of this number.
-func CutOpening(file []byte, number int) (behind []byte, right bool) {
-	return bytes.CutPrefix(file, opening(number))
 }
 
 func opening(number int) []byte {

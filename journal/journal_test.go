@@ -67,17 +67,17 @@ func TestRecordsAreWrittenAndReadJustSo(t *testing.T) {
 		if got := string(appendRecord([]byte("ahead"), record)); got != "ahead"+want {
 			t.Errorf("%v is written as %q, want %q behind what was there", record, got, want)
 		}
-		got, behind, right := CutRecord([]byte(want + "behind"))
+		got, behind, right := cutRecord([]byte(want + "behind"))
 		if !same(got, record) || string(behind) != "behind" || !right {
-			t.Errorf("CutRecord(%q) = %v, %q, %v, want %v", want, got, behind, right, record)
+			t.Errorf("cutRecord(%q) = %v, %q, %v, want %v", want, got, behind, right, record)
 		}
 	}
 }
 
 func wantNoRecord(t *testing.T, data string) {
 	t.Helper()
-	if record, behind, right := CutRecord([]byte(data)); right || len(behind) != 0 || !same(record, Record{}) {
-		t.Errorf("CutRecord(%q) = %v, %q, %v", data, record, behind, right)
+	if record, behind, right := cutRecord([]byte(data)); right || len(behind) != 0 || !same(record, Record{}) {
+		t.Errorf("cutRecord(%q) = %v, %q, %v", data, record, behind, right)
 	}
 }
 
@@ -126,22 +126,27 @@ func TestOpenings(t *testing.T) {
 		if got := string(opening(number)); got != want || len(got) != 11 {
 			t.Errorf("opening(%d) = %q, want %q", number, got, want)
 		}
-		if behind, right := CutOpening([]byte(want+"behind"), number); string(behind) != "behind" || !right {
-			t.Errorf("CutOpening(%d) = %q, %v", number, behind, right)
-		}
-		if _, right := CutOpening([]byte(want), number^1); right {
-			t.Errorf("the opening of the file %d is that of %d", number, number^1)
+		if got, behind, right := cutOpening([]byte(want + "behind")); got != number || string(behind) != "behind" || !right {
+			t.Errorf("cutOpening(%d) = %d, %q, %v", number, got, behind, right)
 		}
 		for n := range len(want) {
-			if _, right := CutOpening([]byte(want[:n]), number); right {
-				t.Errorf("%d bytes of an opening are one", n)
-			}
-			other := []byte(want + "behind")
-			other[n] ^= 64
-			if _, right := CutOpening(other, number); right {
-				t.Errorf("%q is the opening of the file %d", other, number)
+			wantNoOpening(t, want[:n])
+			for bit := range 8 {
+				other := []byte(want + "behind")
+				other[n] ^= 1 << bit
+				wantNoOpening(t, string(other))
 			}
 		}
+	}
+	for _, other := range []string{"", "junk", sealed("PL2" + four(1)), sealed("PB1" + four(1)), sealed("pl1" + four(1)), sealed("PL1" + four(1)[:3])} {
+		wantNoOpening(t, other+"behind")
+	}
+}
+
+func wantNoOpening(t *testing.T, file string) {
+	t.Helper()
+	if number, behind, right := cutOpening([]byte(file)); number != 0 || len(behind) != 0 || right {
+		t.Errorf("cutOpening(%q) = %d, %q, %v", file, number, behind, right)
 	}
 }
 

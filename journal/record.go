@@ -49,10 +49,10 @@ func bodyOf(r Record) []byte {
 	return body
 }
 
-// CutRecord takes a record off the bytes that begin with it: it tells the
+// cutRecord takes a record off the bytes that begin with it: it tells the
 // record, what stands behind it, and whether it is written as a record must be.
 // Whether it may follow those ahead of it, the caller has to know.
-func CutRecord(data []byte) (record Record, behind []byte, right bool) {
+func cutRecord(data []byte) (record Record, behind []byte, right bool) {
 	if len(data) < lengthSize {
 		return Record{}, nil, false
 	}

@@ -23,6 +23,12 @@ var noKeys = []string{
 // gone is written in the place of a value by commitOf: the key is deleted.
 const gone = "(gone)"
 
+// asked is what can be asked by moments: a store, or a copy.
+type asked interface {
+	AsOf(t int, key string) (string, api.Errno)
+	Range(t int, from string, to string) ([]api.Pair, api.Errno)
+}
+
 func pairsOf(keysAndValues []string) []api.Pair {
 	var pairs []api.Pair
 	for i := 0; i+1 < len(keysAndValues); i += 2 {
@@ -62,7 +68,7 @@ func wantScan(t *testing.T, s *palimpsest.Store, tx int, from, to string, want .
 	}
 }
 
-func wantAsOf(t *testing.T, s *palimpsest.Store, moment int, key, want string, wantErr api.Errno) {
+func wantAsOf(t *testing.T, s asked, moment int, key, want string, wantErr api.Errno) {
 	t.Helper()
 	if value, e := s.AsOf(moment, key); value != want || e != wantErr {
 		t.Errorf("AsOf(%d, %q) = %q, %d, want %q, %d", moment, key, value, e, want, wantErr)
@@ -70,14 +76,14 @@ func wantAsOf(t *testing.T, s *palimpsest.Store, moment int, key, want string, w
 }
 
 // wantRange takes keys and values in turns.
-func wantRange(t *testing.T, s *palimpsest.Store, moment int, from, to string, want ...string) {
+func wantRange(t *testing.T, s asked, moment int, from, to string, want ...string) {
 	t.Helper()
 	if got, e := s.Range(moment, from, to); !slices.Equal(got, pairsOf(want)) || e != api.OK {
 		t.Errorf("Range(%d, %q, %q) = %q, %d, want %q, 0", moment, from, to, got, e, want)
 	}
 }
 
-func wantNoRange(t *testing.T, s *palimpsest.Store, moment int, want api.Errno) {
+func wantNoRange(t *testing.T, s asked, moment int, want api.Errno) {
 	t.Helper()
 	for _, to := range []string{everything, "", "a", "no key"} {
 		if got, e := s.Range(moment, "", to); len(got) != 0 || e != want {
@@ -94,7 +100,7 @@ func wantRetain(t *testing.T, s *palimpsest.Store, moment int, want api.Errno) {
 }
 
 // wantHorizon holds that one can ask from a moment on, and not ahead of it.
-func wantHorizon(t *testing.T, s *palimpsest.Store, want int) {
+func wantHorizon(t *testing.T, s asked, want int) {
 	t.Helper()
 	wantNoRange(t, s, want-1, api.ErrNotRetained)
 	if _, e := s.Range(want, "", everything); e != api.OK {

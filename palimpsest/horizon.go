@@ -32,5 +32,10 @@ func (s *Store) pinnedAhead(t int) bool {
 			return true
 		}
 	}
+	for _, b := range s.undone {
+		if b.needs < t {
+			return true
+		}
+	}
 	return false
 }

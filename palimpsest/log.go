@@ -30,19 +30,17 @@ func Recover(files [][]byte) (*Store, api.Errno) {
 // replay does what a file's records say, up to the first that is not right, and
 // tells whether the file is whole.
 func (s *Store) replay(file []byte, number int) bool {
-	rest, right := journal.CutOpening(file, number)
-	if !right {
+	told, records, clean := journal.Read(file)
+	if told != number {
 		return false
 	}
-	for range api.SegRecords {
-		record, behind, right := journal.CutRecord(rest)
-		if !right || !s.mayFollow(record) {
+	for _, record := range records {
+		if !s.mayFollow(record) {
 			return false
 		}
 		s.do(record)
-		rest = behind
 	}
-	return len(rest) == 0
+	return clean && len(records) == api.SegRecords
 }
 
 // mayFollow tells whether this store could write a record next.

@@ -21,6 +21,17 @@ type model struct {
 	begun    int
 	log      []modelRecord
 	synced   int // bytes
+	undone   []*modelBackup
+	taken    int
+}
+
+// modelBackup is a backup: what stands ahead of its versions (until it is told),
+// those that are left, and the sum.
+type modelBackup struct {
+	number, needs, since, upto, floor int
+	head                              string
+	entries                           []string
+	sum                               string
 }
 
 // modelRecord is a commit's, if it has versions, else a horizon's.
@@ -264,17 +275,74 @@ func (m *model) retain(moment int) api.Errno {
 			return api.ErrPinned
 		}
 	}
+	for _, b := range m.undone {
+		if b.needs < moment {
+			return api.ErrPinned
+		}
+	}
 	if moment != m.horizon {
 		m.do(modelRecord{moment: moment})
 	}
 	return api.OK
 }
 
-// vacuum looks for the first version that may go from the beginning each time.
-func (m *model) vacuum(most int) int {
+func (m *model) backup(since int) (int, api.Errno) {
+	if since < 0 || since != 0 && (since < m.horizon || since > m.now) {
+		return 0, api.ErrArg
+	}
+	if len(m.undone) == api.MaxBackups {
+		return 0, api.ErrFull
+	}
+	m.taken++
+	b := &modelBackup{number: m.taken, needs: since, since: since, upto: m.now, floor: m.horizon}
+	if since == 0 {
+		b.needs = m.horizon
+	}
+	m.sort()
+	for _, v := range m.versions {
+		if v.deleted {
+			v.value = gone
+		}
+		if v.moment > since {
+			b.entries = append(b.entries, entry(v.key, v.moment, v.value))
+		}
+	}
+	b.head = head(since, m.now, m.horizon, len(b.entries))
+	b.sum = sumOf(b.head + strings.Join(b.entries, ""))
+	m.undone = append(m.undone, b)
+	return m.taken, api.OK
+}
+
+func (m *model) step(number int, most int) (string, bool, api.Errno) {
+	for i, b := range m.undone {
+		if b.number != number {
+			continue
+		}
+		piece := b.head
+		b.head = ""
+		for told := 0; told < most && len(b.entries) > 0; told++ {
+			piece += b.entries[0]
+			b.entries = b.entries[1:]
+		}
+		if len(b.entries) > 0 {
+			return piece, false, api.OK
+		}
+		m.undone = slices.Delete(m.undone, i, i+1)
+		return piece + b.sum, true, api.OK
+	}
+	return "", false, api.ErrBackup
+}
+
+// sort brings the versions into order by keys, of one key by moments.
+func (m *model) sort() {
 	slices.SortFunc(m.versions, func(a, b modelVersion) int {
 		return cmp.Or(cmp.Compare(a.key, b.key), cmp.Compare(a.moment, b.moment))
 	})
+}
+
+// vacuum looks for the first version that may go from the beginning each time.
+func (m *model) vacuum(most int) int {
+	m.sort()
 	went := 0
 	for went < most {
 		next := m.firstThatMayGo()
@@ -324,10 +392,17 @@ type walk struct {
 	d    dice
 	keys []string // in order
 	safe bool     // crashes leave all
+
+	truth  [][]api.Pair      // what the model told at each moment when it was now
+	pieces map[int]string    // of backups that are not done
+	chain  []*modelBackup    // done, each from the last one's upto on
+	dumps  []string          // of the chain
+	copies map[api.Errno]int // how often Restore answered what
 }
 
 func newWalk(t *testing.T, seed int, keys int) *walk {
 	w := &walk{t: t, s: palimpsest.New(), m: &model{}, d: dice(seed)}
+	w.truth, w.pieces, w.copies = [][]api.Pair{nil}, map[int]string{}, map[api.Errno]int{}
 	for i := range keys {
 		w.keys = append(w.keys, "k"+strconv.Itoa(i))
 	}
@@ -355,13 +430,12 @@ func (w *walk) moment() int {
 }
 
 func (w *walk) step() {
-	switch tx := w.number(); w.d.below(17) {
+	switch tx := w.number(); w.d.below(20) {
 	case 0, 1:
 		want, e := w.m.begin()
 		wantBegin(w.t, w.s, want, e)
 	case 2:
-		want, e := w.m.commit(tx)
-		wantCommit(w.t, w.s, tx, want, e)
+		w.commit(tx)
 	case 3:
 		if w.d.below(4) == 0 {
 			wantAbort(w.t, w.s, tx, w.m.abort(tx))
@@ -395,9 +469,28 @@ func (w *walk) step() {
 		if w.d.below(10) == 0 {
 			w.crash()
 		}
+	case 17:
+		if w.d.below(3) == 0 {
+			w.backup()
+		}
+	case 18:
+		w.stepBackup()
+	case 19:
+		if w.d.below(4) == 0 {
+			w.restore()
+		}
 	}
 	wantNow(w.t, w.s, w.m.now)
 	wantStored(w.t, w.s, len(w.m.versions))
+}
+
+func (w *walk) commit(tx int) {
+	want, e := w.m.commit(tx)
+	wantCommit(w.t, w.s, tx, want, e)
+	if w.m.now == len(w.truth) {
+		pairs, _ := w.m.rangeAt(w.m.now, "", everything, w.keys)
+		w.truth = append(w.truth, pairs)
+	}
 }
 
 // crash holds the logs against each other, and goes on with what a crash has
@@ -423,6 +516,115 @@ func (w *walk) crash() {
 	}
 	w.s, w.m = s, w.m.recovered(left)
 	wantFiles(w.t, w.s, w.m.files())
+	w.forget()
+}
+
+// forget leaves those dumps out whose moments the store has lost: what it writes
+// at them now is something else.
+func (w *walk) forget() {
+	w.truth = w.truth[:w.m.now+1]
+	clear(w.pieces)
+	for len(w.chain) > 0 && w.chain[len(w.chain)-1].upto > w.m.now {
+		w.chain, w.dumps = w.chain[:len(w.chain)-1], w.dumps[:len(w.dumps)-1]
+	}
+}
+
+// backup begins one, often such that it can follow the last one that is done.
+func (w *walk) backup() {
+	since := w.moment()
+	if n := len(w.chain); n > 0 && w.d.below(3) > 0 {
+		since = w.chain[n-1].upto
+	} else if w.d.below(3) == 0 {
+		since = 0
+	}
+	want, e := w.m.backup(since)
+	wantBackup(w.t, w.s, since, want, e)
+}
+
+func (w *walk) stepBackup() {
+	most, number := w.d.below(12)-2, w.m.taken-w.d.below(5)
+	var b *modelBackup
+	if n := len(w.m.undone); n > 0 && w.d.below(8) > 0 {
+		b = w.m.undone[w.d.below(n)]
+		number = b.number
+	}
+	want, done, e := w.m.step(number, most)
+	if e == api.ErrBackup {
+		wantNoBackup(w.t, w.s, number)
+		return
+	}
+	wantStep(w.t, w.s, number, most, want, done)
+	w.pieces[number] += want
+	if done && b != nil {
+		w.keep(b)
+	}
+}
+
+// keep takes a dump that is done as the next one of the chain, or the first.
+func (w *walk) keep(b *modelBackup) {
+	switch {
+	case b.since == 0:
+		w.chain, w.dumps = []*modelBackup{b}, []string{w.pieces[b.number]}
+	case len(w.chain) > 0 && w.chain[len(w.chain)-1].upto == b.since:
+		w.chain, w.dumps = append(w.chain, b), append(w.dumps, w.pieces[b.number])
+	}
+	delete(w.pieces, b.number)
+}
+
+// restore makes a copy of the chain and some of the log's files, and holds that
+// it tells at each moment what the store told when it was now.
+func (w *walk) restore() {
+	files := w.m.files()
+	from := w.d.below(len(files) + 1)
+	until := from + w.d.below(len(files)-from+1)
+	if w.d.below(2) == 0 {
+		until = len(files)
+	}
+	files = files[from:until]
+	moment := w.d.below(w.m.now+6) - 3
+	want := w.restorable(from, until, moment)
+	w.copies[want]++
+	if want != api.OK {
+		wantNoCopy(w.t, w.dumps, files, moment, want)
+		return
+	}
+	c := wantRestored(w.t, w.dumps, files, moment)
+	floor := w.chain[0].floor
+	wantSpan(w.t, c, floor, moment)
+	wantHorizon(w.t, c, floor)
+	for at := floor; at <= moment; at++ {
+		if got, e := c.Range(at, "", everything); !slices.Equal(got, w.truth[at]) || e != api.OK {
+			w.t.Errorf("a copy tells %q at %d, the store told %q", got, at, w.truth[at])
+		}
+	}
+	wantNoRange(w.t, c, moment+1, api.ErrFuture)
+}
+
+// restorable tells P16's answer for the chain and files of the model's log.
+func (w *walk) restorable(from, until, moment int) api.Errno {
+	first, last := 0, 0 // commits in the files
+	for i, r := range w.m.log {
+		if i/api.SegRecords < from || i/api.SegRecords >= until || len(r.versions) == 0 {
+			continue
+		}
+		if first == 0 {
+			first = r.moment
+		}
+		last = r.moment
+	}
+	if len(w.chain) == 0 {
+		return api.ErrGap
+	}
+	upto := w.chain[len(w.chain)-1].upto
+	switch {
+	case first > upto+1:
+		return api.ErrGap
+	case moment < w.chain[0].floor:
+		return api.ErrNotRetained
+	case moment > upto && moment > last:
+		return api.ErrFuture
+	}
+	return api.OK
 }
 
 func (w *walk) rangeAt(moment int, from, to string) {
@@ -454,7 +656,8 @@ func (w *walk) scan(tx int, from, to string) {
 }
 
 func TestStoreAnswersAsTheModel(t *testing.T) {
-	for seed := range 100 {
+	copies := map[api.Errno]int{}
+	for seed := range 300 {
 		w := newWalk(t, seed, []int{2, 5, 15, 40}[seed%4])
 		for range 1500 {
 			w.step()
@@ -463,12 +666,32 @@ func TestStoreAnswersAsTheModel(t *testing.T) {
 		if t.Failed() {
 			t.Fatalf("the walk of the seed %d went wrong", seed)
 		}
+		for e, count := range w.copies {
+			copies[e] += count
+		}
+	}
+	for _, e := range []api.Errno{api.OK, api.ErrGap, api.ErrNotRetained, api.ErrFuture} {
+		if copies[e] < 100 {
+			t.Errorf("Restore answered %d only %d times: too few to tell much", e, copies[e])
+		}
+	}
+}
+
+// hasten commits until it is a moment, without asking for anything.
+func (w *walk) hasten(moment int) {
+	for w.m.now < moment && !w.t.Failed() {
+		tx, _ := w.m.begin()
+		wantBegin(w.t, w.s, tx, api.OK)
+		key, value := w.keys[w.d.below(len(w.keys))], strconv.Itoa(w.m.now)
+		wantPut(w.t, w.s, tx, key, value, w.m.write(tx, modelVersion{key: key, value: value}))
+		w.commit(tx)
 	}
 }
 
 func TestStoreAnswersAsTheModelBeyondMaxMoments(t *testing.T) {
 	w := newWalk(t, 7, 80)
 	w.safe = true
+	w.hasten(api.MaxMoments - 200)
 	for steps := 0; w.m.now < api.MaxMoments && steps < 100*api.MaxMoments && !t.Failed(); steps++ {
 		w.step()
 	}

@@ -38,7 +38,12 @@ var sixMomentsTell = [][]string{
 // wantSixMoments holds that a store tells what sixMoments told, from a moment on.
 func wantSixMoments(t *testing.T, s *palimpsest.Store, from int) {
 	t.Helper()
-	for moment := from; moment <= 6; moment++ {
+	wantOfSixMoments(t, s, from, 6)
+}
+
+func wantOfSixMoments(t *testing.T, s asked, from, upto int) {
+	t.Helper()
+	for moment := from; moment <= upto; moment++ {
 		tell := pairsOf(sixMomentsTell[moment])
 		wantRange(t, s, moment, "", everything, sixMomentsTell[moment]...)
 		for _, key := range []string{"a", "b", "c", "d", "e", "f"} {

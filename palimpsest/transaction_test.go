@@ -141,6 +141,10 @@ func TestP3ANewStoreHasNothing(t *testing.T) {
 	if files := s.Files(); len(files) != 0 {
 		t.Errorf("Files() = %q, want none", files)
 	}
+	for _, number := range []int{-1, 0, 1, 2} {
+		wantNoBackup(t, s, number)
+	}
+	wantBackup(t, s, 0, 1, api.OK)
 	wantBegin(t, s, 1, api.OK)
 	wantScan(t, s, 1, "", "\xff\xff")
 	wantGet(t, s, 1, "a", "", api.ErrNone)

@@ -2,8 +2,12 @@
 package sums
 
 // Of tells the sum of bytes.
-func Of(data []byte) uint32 {
-	sum := ^uint32(0)
+func Of(data []byte) uint32 { return More(0, data) }
+
+// More tells the sum of bytes that stand behind others of which the sum is
+// known (it is 0, if there are none): so the others need not be kept.
+func More(sum uint32, data []byte) uint32 {
+	sum = ^sum
 	for _, b := range data {
 		sum = sum>>8 ^ ofByte(byte(sum)^b)
 	}

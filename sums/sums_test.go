@@ -70,3 +70,18 @@ func TestSumsOfLongBytes(t *testing.T) {
 		}
 	}
 }
+
+func TestMoreGoesOnWithASum(t *testing.T) {
+	data := []byte("PB1\x00\x00\x00\x00 a sum of bytes that come in pieces \xff\xfe")
+	for i := range len(data) + 1 {
+		for k := i; k <= len(data); k++ {
+			got := More(More(More(0, data[:i]), data[i:k]), data[k:])
+			if want := plain(data); got != want {
+				t.Fatalf("the sum in pieces that end at %d and %d is %#x, want %#x", i, k, got, want)
+			}
+		}
+	}
+	if got := More(77, nil); got != 77 {
+		t.Errorf("nothing more changes a sum to %d", got)
+	}
+}
