@@ -162,6 +162,7 @@ func TestACountThatIsNotThatOfTheVersions(t *testing.T) {
 	}
 	wantNoDump(t, sealed("PB2"+head(0, 0, 0, 0)[3:]))
 	wantNoDump(t, sealed("PL1"+head(0, 0, 0, 0)[3:]))
+	wantNoDump(t, sealed(head(0, 0, 0, 0)[3:]))
 }
 
 // pieces tells a dump by pieces of at most so many versions, and holds that only

@@ -239,7 +239,7 @@ func TestP16DumpsThatNoStoreTells(t *testing.T) {
 		dumpOf(0, 4, 0, entry("a", 1, strings.Repeat("v", 21))), dumpOf(0, 4, 0, text("a")+four(1)+one(2)), dumpOf(0, 4, 0, text("a")+four(1)+one(2)+text("x")),
 		dumpOf(0, 4, 0, text("a")+four(1)), dumpOf(0, 4, 0, text("a")+four(1)+one(0)), dumpOf(0, 4, 0, text("a")+four(1)+one(1)+one(0)), dumpOf(0, 4, 0, "junk"),
 		sealed(head(0, 4, 0, 0) + x), sealed(head(0, 4, 0, 2) + x), sealed(head(0, 4, 0, 1)), sealed(head(0, 4, 0, 4294967295) + x), sealed(head(0, 4, 0, 257) + x),
-		sealed("PB2" + head(0, 4, 0, 0)[3:]), sealed("PL1" + head(0, 4, 0, 0)[3:]), sealed("pb1" + head(0, 4, 0, 0)[3:]), sealed(""), sealed("PB1"), logOf(sixCommits()...)[0],
+		sealed("PB2" + head(0, 4, 0, 0)[3:]), sealed("PL1" + head(0, 4, 0, 0)[3:]), sealed("pb1" + head(0, 4, 0, 0)[3:]), sealed(head(0, 4, 0, 0)[3:]), sealed(""), sealed("PB1"), logOf(sixCommits()...)[0],
 	} {
 		wantDumpDamage(t, damaged)
 	}
@@ -295,6 +295,7 @@ func TestP16FilesLeftOutOrOutOfTheirOrder(t *testing.T) {
 		{"", f[0], f[1], f[2]}, {f[0], "", f[1]}, {f[0], f[1], f[2], ""}, {f[0], f[1], opening(10)}, {opening(8)}, {f[0], opening(9)}, {opening(7), f[0]},
 		{opening(8) + sixCommits()[0], opening(9) + sixCommits()[1]}, {f[0] + f[1]}, {"", ""}, {"junk"}, {sixDump(0, 6, 0)},
 		{logFrom(4294967295, sixCommits()[:4]...)[0], opening(0) + sixCommits()[4]}, {f[0], f[1], f[2], opening(11) + more},
+		{sealed("PL2"+four(8)) + more}, {sealed("PB1"+four(8)) + more}, {sealed("pl1"+four(8)) + more}, {more}, {"PL1" + four(8) + more},
 	} {
 		wantFilesDamage(t, files)
 	}
